@@ -1,0 +1,1 @@
+"""Evernever: a fence round what a machine of lamps can reach."""
