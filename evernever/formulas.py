@@ -1,11 +1,9 @@
 """Formulas: where they hold, which lamps they have, and how they are written."""
 
+from evernever.crowds import all_stands
+
 # Formulas lie deep in one another. So the methods call those of their parts
 # straight out of a plain loop: one call for each depth, and no more.
-
-
-def all_stands(many):
-    return (1 << (1 << many)) - 1
 
 
 def bracketed(part, text, bound):
