@@ -2,10 +2,13 @@
 
 import collections
 import random
+import re
 import unittest
 
 from evernever import errors
 from evernever.charts import Chart
+from evernever.machines import Machine, Move
+from trees import built, drawn_tree, due_text, due_truth
 
 REFUSALS = [
     errors.NoFormula, errors.NoChart, errors.NoStep, errors.NoLine, errors.NoName, errors.NoBar,
@@ -93,7 +96,8 @@ def ring(many, starts, bads):
 
 def row(many, starts, bads):
     size = 2 ** many
-    return Plain(many, set(starts), set(bads), [{stand + 1} if stand + 1 < size else set() for stand in range(size)])
+    return Plain(many, set(starts), set(bads),
+                 [{stand + 1} if stand + 1 < size else set() for stand in range(size)])
 
 
 def distances(plain):
@@ -112,3 +116,172 @@ def distances(plain):
 def due_nearest(plain):
     found = distances(plain)
     return min([found[stand] for stand in found if stand in plain.bads], default=None)
+
+
+# Starts and bads are lists of trees, moves a list of tuples (tree, [(lamp, tree), ..]).
+PlainMachine = collections.namedtuple("PlainMachine", "names starts bads moves")
+
+NAME_LISTS = [
+    ["a", "b", "c", "d", "e", "f"], ["z", "zz", "abcdefgh", "q", "zzz", "ab"],
+    ["nota", "orb", "isa", "thena", "yess", "noo"], ["lamps", "start", "bad", "move", "drop", "show"],
+    ["judge", "fence", "always", "reach", "none", "never"],
+]
+
+
+def move_of(guard, changes):
+    return Move(built(guard), [(lamp, built(tree)) for lamp, tree in changes])
+
+
+def machine_from(plain):
+    return Machine(
+        list(plain.names), [built(tree) for tree in plain.starts], [built(tree) for tree in plain.bads],
+        [move_of(guard, changes) for guard, changes in plain.moves],
+    )
+
+
+def drawn_move(draw, many):
+    lamps = draw.sample(range(many), draw.randrange(1, many + 1))
+    guard = drawn_tree(draw, draw.choice([0, 1, 2]), many)
+    return guard, [(lamp, drawn_tree(draw, draw.choice([0, 1, 2]), many)) for lamp in lamps]
+
+
+def single_stand(stand, many):
+    """The tree that holds at this stand alone."""
+    parts = [("lamp", lamp) if stand >> lamp & 1 else ("not", ("lamp", lamp)) for lamp in range(many)]
+    return parts[0] if many == 1 else ("and", *parts)
+
+
+def drawn_formulas(draw, many):
+    often = draw.choice([0, 1, 1, 1, 2, 3, 8])
+    if draw.random() < 0.6:
+        return [single_stand(draw.randrange(2 ** many), many) for _ in range(often)]
+    return [drawn_tree(draw, draw.choice([0, 1, 2]), many) for _ in range(often)]
+
+
+def drawn_machine(draw, many):
+    names = draw.choice(NAME_LISTS)[:many]
+    moves = [drawn_move(draw, many) for _ in range(draw.choice([0, 1, 1, 2, 3, 4, 8]))]
+    return PlainMachine(names, drawn_formulas(draw, many), drawn_formulas(draw, many), moves)
+
+
+def drawn_machines(seed, often):
+    draw = random.Random(seed)
+    return [drawn_machine(draw, many) for many, times in enumerate(often, start=1) for turn in range(times)]
+
+
+def due_onward(move, stand):
+    lit = {lamp for lamp in range(6) if stand >> lamp & 1} - {lamp for lamp, tree in move[1]}
+    return sum(2 ** lamp for lamp in lit | {lamp for lamp, tree in move[1] if due_truth(tree, stand)})
+
+
+def due_chart(plain):
+    stands = range(2 ** len(plain.names))
+    return Plain(
+        len(plain.names),
+        {stand for stand in stands if any(due_truth(tree, stand) for tree in plain.starts)},
+        {stand for stand in stands if any(due_truth(tree, stand) for tree in plain.bads)},
+        [{due_onward(move, stand) for move in plain.moves if due_truth(move[0], stand)} for stand in stands],
+    )
+
+
+def due_move_line(move, names):
+    pieces = [f"{names[lamp]} is {due_text(tree, names)}" for lamp, tree in move[1]]
+    return f"move {due_text(move[0], names)} then {', '.join(pieces)}"
+
+
+def due_lines(plain):
+    lines = ["lamps " + " ".join(plain.names)]
+    lines += ["start " + due_text(tree, plain.names) for tree in plain.starts]
+    lines += ["bad " + due_text(tree, plain.names) for tree in plain.bads]
+    return lines + [due_move_line(move, plain.names) for move in plain.moves]
+
+
+def words_of(text):
+    return None if re.search("[^a-z(), ]", text) else re.findall("[a-z]+|[(),]", text)
+
+
+def shrunk(words, names):
+    """What is left of the words when what a formula is made of is put together as long as that can be done."""
+    marks = {"not": "n", "and": "j", "either": "j", "or": "j", "(": "(", ")": ")", "yes": "x", "no": "x"}
+    marks.update({name: "x" for name in names})
+    text = "".join(marks.get(word, "?") for word in words)
+    before = None
+    while text != before:
+        before = text
+        for made in ("nx", "xjx", "(x)"):
+            text = text.replace(made, "x")
+    return text
+
+
+EIGHT = ["and", "or", "not", "either", "yes", "no", "then", "is"]
+
+
+def faults_of_lamps(behind):
+    found = set()
+    if not 1 <= len(behind) <= 6:
+        found.add(errors.NoLine)
+    if len(set(behind)) < len(behind) or not all(re.fullmatch("[a-z]{1,8}", word) for word in behind):
+        found.add(errors.NoName)
+    if set(behind) & set(EIGHT):
+        found.add(errors.NoName)
+    return found
+
+
+def faults_of_move(behind, names):
+    if behind.count("then") != 1:
+        return {errors.NoLine}
+    guard, changes = [part.split() for part in " ".join([""] + behind + [""]).split(" then ")]
+    pieces = [piece.split() for piece in " ".join(changes).split(",")]
+    found = set()
+    if any(len(piece) < 2 or piece[1] != "is" for piece in pieces):
+        found.add(errors.NoLine)
+    firsts = [piece[0] for piece in pieces if piece]
+    if set(firsts) - set(names) or len(set(firsts)) < len(firsts):
+        found.add(errors.NoName)
+    if any(shrunk(words, names) != "x" for words in [guard] + [piece[2:] for piece in pieces]):
+        found.add(errors.NoFormula)
+    return found
+
+
+def faults_of_line(line, names):
+    """All faults of a lamps, start, bad or move line; of another one NoLine."""
+    words = words_of(line)
+    if not words or words[0] not in ("lamps", "start", "bad", "move"):
+        return {errors.NoLine}
+    if words[0] == "lamps":
+        return faults_of_lamps(words[1:])
+    if words[0] == "move":
+        return faults_of_move(words[1:], names)
+    return set() if shrunk(words[1:], names) == "x" else {errors.NoFormula}
+
+
+def first_of(faults, order):
+    return next((fault for fault in order if fault in faults), None)
+
+
+def changed_words(draw, words, more):
+    """The words with one missing, one too many, or one in the place of another."""
+    place = draw.randrange(len(words) + 1)
+    return draw.choice([
+        words[:place] + words[place + 1:],
+        words[:place] + [draw.choice(more)] + words[place:],
+        words[:place] + [draw.choice(more)] + words[place + 1:],
+    ])
+
+
+def due_lies(stand, bar):
+    """Whether a stand lies in a bar, lamp by lamp."""
+    for lamp in range(6):
+        asked, must, lit = [number // 2 ** lamp % 2 == 1 for number in (bar[0], bar[1], stand)]
+        if asked and must != lit:
+            return False
+    return True
+
+
+def all_bars(many):
+    return [(asked, lit) for asked in range(2 ** many) for lit in range(2 ** many) if asked | lit == asked]
+
+
+def drawn_bar(draw, many):
+    asked = crowd_in(draw.sample(range(many), draw.randrange(many + 1)))
+    return asked, asked & draw.randrange(2 ** many)

@@ -50,7 +50,8 @@ class Refused(Case):
 
     def test_starts_bads_and_things_of_the_list(self):
         for many in MANYS:
-            for wrong in (-1, every(many) + 1, -every(many), 2 ** 2 ** many * 3, 10 ** 299, True, False, None, "1", 1.0, [0]):
+            for wrong in (-1, every(many) + 1, -every(many), 2 ** 2 ** many * 3, 10 ** 299, True, False, None,
+                          "1", 1.0, [0]):
                 self.check(many, wrong, 2, [1] * 2 ** many)
                 self.check(many, 1, wrong, [1] * 2 ** many)
                 for place in {0, 2 ** many // 2, 2 ** many - 1}:
@@ -61,8 +62,8 @@ class Refused(Case):
     def test_the_list(self):
         for many in MANYS:
             size = 2 ** many
-            for wrong in ([1] * (size - 1), [1] * (size + 1), [], [1] * (2 * size), (1,) * size, None, 1, "1" * size,
-                          {stand: 1 for stand in range(size)}, range(size), "", ()):
+            for wrong in ([1] * (size - 1), [1] * (size + 1), [], [1] * (2 * size), (1,) * size, None, 1,
+                          "1" * size, {stand: 1 for stand in range(size)}, range(size), "", ()):
                 self.check(many, 1, 2, wrong)
 
     def test_crowds_that_fit_a_greater_number_of_lamps_alone(self):

@@ -6,54 +6,11 @@ import unittest
 from evernever.formulas import And, Either, Lamp, Not, Or, Sure
 from evernever.reading import read
 from plain import Case
-from trees import A, B, C, D, E, F, NAMES, NESTED, NO, TREES, YES, due_text, due_truth
+from trees import A, B, C, D, E, F, NAMES, NESTED, NO, TREES, YES, drawn_trees, due_text, due_truth, with_blanks
 
 SORTS = {"lamp": Lamp, "sure": Sure, "not": Not, "and": And, "either": Either, "or": Or}
 
 ABC = ["a", "b", "c"]
-
-
-def deepest(text):
-    """How many brackets are open at once, at most."""
-    found = [0]
-    for sign in text:
-        found.append(found[-1] + (sign == "(") - (sign == ")"))
-    return max(found)
-
-
-def nots_side_by_side(text):
-    found = [0]
-    for word in text.replace("(", " ( ").replace(")", " ) ").split():
-        found.append(found[-1] + 1 if word == "not" else 0)
-    return max(found)
-
-
-def drawn_tree(draw, deep):
-    if deep == 0 or draw.random() < 0.2:
-        return draw.choice([A, B, C, D, E, F, YES, NO])
-    sort = draw.choice(["not", "and", "either", "or"])
-    many = 1 if sort == "not" else draw.choice([2, 2, 3, 4])
-    return (sort, *[drawn_tree(draw, deep - 1) for _ in range(many)])
-
-
-def drawn_trees(seed, many, deep):
-    draw = random.Random(seed)
-    found = []
-    while len(found) < many:
-        tree = drawn_tree(draw, deep)
-        text = due_text(tree, NAMES)
-        if len(text) <= 4000 and deepest(text) <= 8 and nots_side_by_side(text) <= 4:
-            found.append(tree)
-    return found
-
-
-def with_blanks(draw, text):
-    """The same words, with any number of blanks between them and beside brackets."""
-    for bracket in "()":
-        text = text.replace(bracket, " " * draw.randrange(3) + bracket + " " * draw.randrange(3))
-    words = text.split(" ")
-    text = "".join(word + " " * draw.randrange(1, 4) for word in words)
-    return " " * draw.randrange(3) + text
 
 
 class ReadCase(Case):

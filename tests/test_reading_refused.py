@@ -6,7 +6,7 @@ import unittest
 from evernever.errors import NoFormula
 from evernever.formulas import Formula
 from evernever.reading import read
-from plain import Case
+from plain import Case, shrunk, words_of
 
 NAMES = ["a", "b", "c"]
 
@@ -19,32 +19,15 @@ REFUSED = [
     "", " ", "      ", "()", "( )", "(())", "a ()", "() a", "a and ()", "not ()",
     "and", "or", "either", "not", "not not", "then", "is", ",", "(", ")", ")(", ")a(", "(a", "a)", "((a)", "(a))",
     "and a", "a and", "a and and b", "a and or b", "either a", "a either", "or a", "a or", "a or not", "a not",
-    "a not b", "(a) not", "(a) not b", "(a not)", "a (b)", "(a) b", "(a)(b)", "a b", "a b c", "yes no", "yes a", "a yes",
-    "not a b", "a and b c", "a, b", "a,", ",a", "(a,b)", "a and (b", "a and b)", "(a and) b", "(a) and (b",
+    "a not b", "(a) not", "(a) not b", "(a not)", "a (b)", "(a) b", "(a)(b)", "a b", "a b c", "yes no", "yes a",
+    "a yes", "not a b", "a and b c", "a, b", "a,", ",a", "(a,b)", "a and (b", "a and b)", "(a and) b", "(a) and (b",
     "then a", "a then b", "a is b", "is a", "a and then", "a or is", "not then", "(is)", "(then)",
-    "d", "aa", "a and d", "not d", "(d)", "yess", "noo", "nota", "anda", "a andb", "aand b", "yes and d", "lamps", "xor",
+    "d", "aa", "a and d", "not d", "(d)", "yess", "noo", "nota", "anda", "a andb", "aand b", "yes and d",
+    "lamps", "xor",
 ]
 
-SIGNS = ["A", "Z", "0", "1", "9", "-", "_", ".", ";", "&", "|", "!", "'", '"', "[", "{", "\t", "\n", "\r", "\xa0", "\xe4"]
-
-
-def words_of(text):
-    for mark in "(),":
-        text = text.replace(mark, f" {mark} ")
-    return text.split()
-
-
-def shrunk(words, names):
-    """What is left of the words when what a formula is made of is put together as long as that can be done."""
-    marks = {"not": "n", "and": "j", "either": "j", "or": "j", "(": "(", ")": ")", "yes": "x", "no": "x"}
-    marks.update({name: "x" for name in names})
-    text = "".join(marks.get(word, "?") for word in words)
-    before = None
-    while text != before:
-        before = text
-        for made in ("nx", "xjx", "(x)"):
-            text = text.replace(made, "x")
-    return text
+SIGNS = ["A", "Z", "0", "1", "9", "-", "_", ".", ";", "&", "|", "!", "'", '"', "[", "{", "\t", "\n", "\r",
+         "\xa0", "\xe4"]
 
 
 def due_crowd(words, names):

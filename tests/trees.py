@@ -4,6 +4,8 @@ A tree is ("lamp", number), ("sure", truth), ("not", tree),
 or ("and" | "or" | "either", tree, tree, ...).
 """
 
+import random
+
 from evernever.formulas import And, Either, Lamp, Not, Or, Sure
 
 A, B, C, D, E, F = [("lamp", at) for at in range(6)]
@@ -105,3 +107,46 @@ NESTED = (
 )
 
 TREES = LEAVES + FLAT + NESTED
+
+
+def deepest(text):
+    """How many brackets are open at once, at most."""
+    found = [0]
+    for sign in text:
+        found.append(found[-1] + (sign == "(") - (sign == ")"))
+    return max(found)
+
+
+def nots_side_by_side(text):
+    found = [0]
+    for word in text.replace("(", " ( ").replace(")", " ) ").split():
+        found.append(found[-1] + 1 if word == "not" else 0)
+    return max(found)
+
+
+def drawn_tree(draw, deep, lamps=6):
+    if deep == 0 or draw.random() < 0.2:
+        return draw.choice([("lamp", draw.randrange(lamps))] * 4 + [YES, NO])
+    sort = draw.choice(["not", "and", "either", "or"])
+    many = 1 if sort == "not" else draw.choice([2, 2, 3, 4])
+    return (sort, *[drawn_tree(draw, deep - 1, lamps) for _ in range(many)])
+
+
+def drawn_trees(seed, many, deep):
+    draw = random.Random(seed)
+    found = []
+    while len(found) < many:
+        tree = drawn_tree(draw, deep)
+        text = due_text(tree, NAMES)
+        if len(text) <= 4000 and deepest(text) <= 8 and nots_side_by_side(text) <= 4:
+            found.append(tree)
+    return found
+
+
+def with_blanks(draw, text):
+    """The same words, with any number of blanks between them and beside brackets and commas."""
+    for mark in "(),":
+        text = text.replace(mark, " " * draw.randrange(3) + mark + " " * draw.randrange(3))
+    words = text.split(" ")
+    text = "".join(word + " " * draw.randrange(1, 4) for word in words)
+    return " " * draw.randrange(3) + text
