@@ -285,3 +285,89 @@ def all_bars(many):
 def drawn_bar(draw, many):
     asked = crowd_in(draw.sample(range(many), draw.randrange(many + 1)))
     return asked, asked & draw.randrange(2 ** many)
+
+
+def stands_in_bar(bar, many):
+    return {stand for stand in range(2 ** many) if due_lies(stand, bar)}
+
+
+def leads_into(plain, stands, inside):
+    """Whether a step leads from one of the stands to one of those inside."""
+    return any(plain.steps[stand] & inside for stand in stands)
+
+
+def due_may_shut(plain, held, bar):
+    inside = stands_in_bar(bar, plain.many)
+    return not plain.starts & inside and not leads_into(plain, set(held) - inside, inside)
+
+
+def lamps_asked(bar):
+    return [lamp for lamp in range(6) if bar[0] // 2 ** lamp % 2 == 1]
+
+
+def left_out(bar, lamps):
+    """The bar with these lamps left out."""
+    asked = [lamp for lamp in lamps_asked(bar) if lamp not in lamps]
+    return crowd_in(asked), crowd_in(lamp for lamp in asked if bar[1] // 2 ** lamp % 2 == 1)
+
+
+def as_wide_as_can_be(plain, held, bar):
+    if not due_may_shut(plain, held, bar):
+        return False
+    return not any(due_may_shut(plain, held, left_out(bar, [lamp])) for lamp in lamps_asked(bar))
+
+
+def due_kept(many, bars):
+    return {stand for stand in range(2 ** many) if not any(due_lies(stand, bar) for bar in bars)}
+
+
+class PlainFrames:
+    """A set of bars for each frame, changed by the very words of points 23, 24 and 25."""
+
+    def __init__(self, plain):
+        self.plain = plain
+        self.sets = [None, set()]
+
+    def last(self):
+        return len(self.sets) - 1
+
+    def crowd(self, k):
+        return set(self.plain.starts) if k == 0 else due_kept(self.plain.many, self.sets[k])
+
+    def bars(self, k):
+        return sorted(self.sets[k])
+
+    def own(self, k):
+        return sorted(self.sets[k] - (self.sets[k + 1] if k < self.last() else set()))
+
+    def lies_within(self, one, other):
+        return stands_in_bar(one, self.plain.many) <= stands_in_bar(other, self.plain.many)
+
+    def refusal(self, k, bar):
+        if not 1 <= k <= self.last():
+            return errors.NoFrame
+        return None if due_may_shut(self.plain, self.crowd(k - 1), bar) else errors.NotShut
+
+    def shut(self, k, bar):
+        if any(self.lies_within(bar, other) for other in self.sets[k]):
+            return
+        beyond = set().union(*self.sets[k + 1:])
+        gone = {other for some in self.sets[1:] for other in some if self.lies_within(other, bar)} - beyond
+        self.sets = [None] + [some - gone for some in self.sets[1:]]
+        for number in range(1, k + 1):
+            self.sets[number].add(bar)
+
+    def add_frame(self):
+        self.sets.append(set())
+
+    def push(self):
+        told = []
+        for k in range(1, self.last()):
+            for bar in self.own(k):
+                if not leads_into(self.plain, self.crowd(k), stands_in_bar(bar, self.plain.many)):
+                    self.sets[k + 1].add(bar)
+                    told.append((k, bar))
+        return told
+
+    def still(self):
+        return next((k for k in range(1, self.last()) if self.crowd(k) == self.crowd(k + 1)), None)
