@@ -158,7 +158,27 @@ def drawn_formulas(draw, many):
     return [drawn_tree(draw, draw.choice([0, 1, 2]), many) for _ in range(often)]
 
 
+def drawn_literals(draw, many):
+    """A tree that asks for one or more lamps."""
+    lamps = draw.sample(range(many), draw.randrange(1, many + 1))
+    parts = [draw.choice([("lamp", lamp), ("not", ("lamp", lamp))]) for lamp in lamps]
+    return parts[0] if len(parts) == 1 else ("and", *parts)
+
+
+def drawn_walk(draw, many):
+    """A machine that goes in small steps, from one start, with one bad stand."""
+    moves = []
+    for _ in range(draw.randrange(1, 9)):
+        lamps = draw.sample(range(many), min(many, draw.choice([1, 1, 2])))
+        changes = [(lamp, draw.choice([("sure", True), ("sure", False), ("not", ("lamp", lamp))])) for lamp in lamps]
+        moves.append((drawn_literals(draw, many), changes))
+    start, bad = [single_stand(draw.randrange(2 ** many), many) for _ in range(2)]
+    return PlainMachine(draw.choice(NAME_LISTS)[:many], [start], [bad], moves)
+
+
 def drawn_machine(draw, many):
+    if draw.random() < 0.4:
+        return drawn_walk(draw, many)
     names = draw.choice(NAME_LISTS)[:many]
     moves = [drawn_move(draw, many) for _ in range(draw.choice([0, 1, 1, 2, 3, 4, 8]))]
     return PlainMachine(names, drawn_formulas(draw, many), drawn_formulas(draw, many), moves)
@@ -371,3 +391,68 @@ class PlainFrames:
 
     def still(self):
         return next((k for k in range(1, self.last()) if self.crowd(k) == self.crowd(k + 1)), None)
+
+
+def due_fault(plain, bars):
+    inside = set(range(2 ** plain.many)) - due_kept(plain.many, bars)
+    outside = set(range(2 ** plain.many)) - inside
+    for stand in sorted(plain.starts & inside):
+        return "start", stand
+    for stand in sorted(outside):
+        for onto in sorted(plain.steps[stand] & inside):
+            return "step", stand, onto
+    for stand in sorted(plain.bads & outside):
+        return "bad", stand
+    return None
+
+
+def is_tight(plain, bars):
+    """Whether the bars are a fence, and none any more without a lamp of a bar or without a bar."""
+    if due_fault(plain, bars) is not None:
+        return False
+    for at, bar in enumerate(bars):
+        others = bars[:at] + bars[at + 1:]
+        if due_fault(plain, others) is None:
+            return False
+        if any(due_fault(plain, others + [left_out(bar, [lamp])]) is None for lamp in lamps_asked(bar)):
+            return False
+    return True
+
+
+def is_cover(many, stands, bars):
+    """Whether just these stands lie in the bars, no lamp of a bar and no bar being needless."""
+    inside = [stands_in_bar(bar, many) for bar in bars]
+    if set().union(*inside) != set(stands):
+        return False
+    for at, bar in enumerate(bars):
+        if inside[at] <= set().union(*inside[:at], *inside[at + 1:]):
+            return False
+        if any(stands_in_bar(left_out(bar, [lamp]), many) <= set(stands) for lamp in lamps_asked(bar)):
+            return False
+    return True
+
+
+def due_is_way(plain, way):
+    if not way or not all(0 <= stand < 2 ** plain.many for stand in way):
+        return False
+    steps = all(other in plain.steps[one] for one, other in zip(way, way[1:]))
+    return way[0] in plain.starts and way[-1] in plain.bads and steps
+
+
+def due_fence_text(bars, names):
+    texts = []
+    for bar in bars:
+        parts = [("not " if bar[1] // 2 ** lamp % 2 else "") + names[lamp] for lamp in lamps_asked(bar)]
+        text = " or ".join(parts) or "no"
+        texts.append(f"({text})" if len(parts) > 1 and len(bars) > 1 else text)
+    return " and ".join(texts) or "yes"
+
+
+def due_signs(many, bar):
+    signs = [str(bar[1] // 2 ** lamp % 2) if bar[0] // 2 ** lamp % 2 else "-" for lamp in range(many)]
+    return "".join(signs)
+
+
+def bar_by_signs(text):
+    asked = [lamp for lamp, sign in enumerate(text) if sign != "-"]
+    return crowd_in(asked), crowd_in(lamp for lamp in asked if text[lamp] == "1")

@@ -5,7 +5,7 @@ import time
 import unittest
 
 from evernever.covers import cover
-from plain import Case, crowd_in, due_lies
+from plain import Case, crowd_in, is_cover
 
 
 def parity(many, odd):
@@ -23,14 +23,16 @@ class Covers(Case):
             self.assertIs(type(bar), tuple)
             self.assertEqual([type(part) for part in bar], [int, int])
             self.assertEqual((bar[0] >> many, bar[1] & ~bar[0]), (0, 0))
-        inside = [{stand for stand in range(2 ** many) if due_lies(stand, bar)} for bar in told]
-        self.assertEqual(sorted(set().union(*inside)), stands)
-        for at, bar in enumerate(told):
-            others = set().union(*inside[:at], *inside[at + 1:])
-            self.assertFalse(inside[at] <= others, (many, crowd, told))
-            for lamp in [lamp for lamp in range(many) if bar[0] >> lamp & 1]:
-                self.assertFalse({stand ^ 2 ** lamp for stand in inside[at]} <= set(stands), (many, crowd, told))
+        self.assertTrue(is_cover(many, stands, told), (many, crowd, told))
         return told
+
+    def test_what_is_no_cover(self):
+        # The check itself: a stand too few, one too many, a needless bar, a needless lamp.
+        self.assertTrue(is_cover(2, [0, 1, 2], [(1, 0), (2, 0)]))
+        self.assertFalse(is_cover(2, [0, 1, 2], [(1, 0)]))
+        self.assertFalse(is_cover(2, [0, 2], [(1, 0), (2, 0)]))
+        self.assertFalse(is_cover(2, [0, 1, 2], [(1, 0), (2, 0), (3, 0)]))
+        self.assertFalse(is_cover(2, [0, 1, 2], [(1, 0), (3, 1)]))
 
     def test_every_crowd_of_up_to_three_lamps(self):
         for many in (1, 2, 3):

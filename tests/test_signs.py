@@ -6,16 +6,8 @@ import unittest
 from evernever.errors import NoBar
 from evernever.formulas import And, Formula, Lamp, Not, Or, Sure
 from evernever.signs import formula_of, read_bar, shown_bar
-from plain import Case, all_bars, crowd_in, drawn_bar, due_kept, lamps_asked
+from plain import Case, all_bars, crowd_in, drawn_bar, due_fence_text, due_kept, due_signs, lamps_asked
 from trees import NAMES
-
-
-def due_shown(many, bar):
-    signs = []
-    for lamp in range(many):
-        asked, lit = bar[0] // 2 ** lamp % 2, bar[1] // 2 ** lamp % 2
-        signs.append(str(lit) if asked else "-")
-    return "".join(signs)
 
 
 def drawn_bars(draw, many):
@@ -37,7 +29,7 @@ class Shown(Case):
     def check(self, many, bar):
         told = shown_bar(many, bar)
         self.assertIs(type(told), str)
-        self.assertEqual(told, due_shown(many, bar))
+        self.assertEqual(told, due_signs(many, bar))
         again = read_bar(told)
         self.assertIs(type(again), tuple)
         self.assertEqual([type(part) for part in again], [int, int])
@@ -95,16 +87,8 @@ class Formulas(Case):
         many = max([lamp + 1 for bar in copy for lamp in lamps_asked(bar)], default=1)
         self.assertEqual(formula.crowd(many), crowd_in(due_kept(many, copy)))
         self.assertEqual(formula.lamps(), sorted({lamp for bar in copy for lamp in lamps_asked(bar)}))
-        self.assertEqual(formula.shown(NAMES), self.due_text(copy))
+        self.assertEqual(formula.shown(NAMES), due_fence_text(copy, NAMES))
         return formula
-
-    def due_text(self, bars):
-        texts = []
-        for bar in bars:
-            parts = [("not " if bar[1] // 2 ** lamp % 2 else "") + NAMES[lamp] for lamp in lamps_asked(bar)]
-            text = " or ".join(parts) or "no"
-            texts.append(f"({text})" if len(parts) > 1 and len(bars) > 1 else text)
-        return " and ".join(texts) or "yes"
 
     def test_no_bars(self):
         formula = self.check([])
