@@ -46,7 +46,6 @@ def without(bar, lamp):
 
 
 def shut_out(many, bars):
-    """The crowd of the stands that lie in one or more of the bars."""
     crowd = 0
     for bar in bars:
         crowd = crowd | crowd_of(many, bar)

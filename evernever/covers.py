@@ -15,7 +15,7 @@ def widest(many, crowd, bar):
 
 
 def needed(many, bars):
-    """The bars, less those whose stands lie in the others that stay."""
+    # Once is enough for each bar: one that is needed among many is needed among fewer.
     stay = list(bars)
     for bar in bars:
         others = [other for other in stay if other != bar]

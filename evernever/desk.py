@@ -16,7 +16,6 @@ MOST = 8
 
 
 def check_line(found):
-    """Refuses with NoLine a line that has not the form told."""
     first = found[0]
     if first in ALONE:
         if len(found) > 1:
@@ -102,7 +101,6 @@ def shown_reach(machine):
 
 
 def told_of(machine, found):
-    """The answer to a line that changes nothing."""
     if found[0] == "show":
         return "; ".join(written(machine))
     if found[0] == "judge":

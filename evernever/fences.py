@@ -5,8 +5,7 @@ from evernever.crowds import least
 from evernever.errors import NoFence
 
 
-def crossing(chart, inside):
-    """The first step from a stand outside to one inside; None where there is none."""
+def first_crossing(chart, inside):
     sources = chart.behind(inside) & ~inside
     if sources == 0:
         return None
@@ -15,10 +14,10 @@ def crossing(chart, inside):
 
 
 def fault_of_crowd(chart, inside):
-    """The fault of any bars in which just the stands of this crowd lie."""
+    # Of bars only this counts: which stands lie in one or more of them.
     if chart.starts & inside:
         return ("start", least(chart.starts & inside))
-    step = crossing(chart, inside)
+    step = first_crossing(chart, inside)
     if step is not None:
         return step
     missed = chart.bads & ~inside
@@ -36,7 +35,6 @@ def is_fence(chart, bars):
 
 
 def wider_bar(chart, inside, bar):
-    """The bar with lamps left out, one after another, as long as the fence round the crowd inside stays one."""
     found = bar
     for lamp in asked_by(bar):
         fewer = without(found, lamp)
@@ -47,7 +45,6 @@ def wider_bar(chart, inside, bar):
 
 
 def with_fewer_lamps(chart, bars):
-    """The bars with lamps left out, one pass over all of them."""
     inside = shut_out(chart.many, bars)
     found = []
     for bar in bars:
@@ -58,7 +55,6 @@ def with_fewer_lamps(chart, bars):
 
 
 def with_fewer_bars(chart, bars):
-    """The bars less those that can go, one pass over all of them."""
     found = list(bars)
     for bar in bars:
         others = [other for other in found if other != bar]

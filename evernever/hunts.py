@@ -7,15 +7,14 @@ from evernever.shutting import widened
 
 
 def shut_stand(chart, frames, diary, k, stand):
-    """Shuts a bar in which the stand lies, as wide as can be, out of frame k."""
     bar = widened(chart, frames.crowd(k - 1), bar_of(chart.many, stand))
     frames.shut(k, bar)
     diary.append(("shut", k, bar))
 
 
-def dealt_with(chart, frames, diary, bad):
-    """Deals with a bad stand that is asked of the last frame: the way to it, or None where it is shut out."""
-    # The stands that are being asked, each of the frame ahead of that of the one before it in the list.
+def way_to(chart, frames, diary, bad):
+    # The stands that are being asked: the first of the last frame, each other one of the frame ahead of
+    # the one before it. A list in the place of calls within one another, which grow deep as frames grow many.
     asked = [bad]
     while len(asked) > 0:
         k = frames.last() + 1 - len(asked)
@@ -32,11 +31,10 @@ def dealt_with(chart, frames, diary, bad):
     return None
 
 
-def cleared(chart, frames, diary):
-    """Clears the last frame of bad stands: a way to one of them, or None where it is cleared."""
+def way_while_clearing(chart, frames, diary):
     found = frames.crowd(frames.last()) & chart.bads
     while found:
-        way = dealt_with(chart, frames, diary, least(found))
+        way = way_to(chart, frames, diary, least(found))
         if way is not None:
             return way
         found = frames.crowd(frames.last()) & chart.bads
@@ -56,11 +54,11 @@ def hunt(chart):
     if found:
         return (diary, ("ever", [least(found)]))
     frames = Frames(chart)
-    way = cleared(chart, frames, diary)
+    way = way_while_clearing(chart, frames, diary)
     while way is None:
         grow(frames, diary)
         k = frames.still()
         if k is not None:
             return (diary, ("never", frames.bars(k)))
-        way = cleared(chart, frames, diary)
+        way = way_while_clearing(chart, frames, diary)
     return (diary, ("ever", way))

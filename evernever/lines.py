@@ -37,8 +37,7 @@ def words_of_line(line):
     return found
 
 
-def pieces_of(found):
-    """The lists of words that the commas part."""
+def parted_by_commas(found):
     pieces = [[]]
     for word in found:
         if word == ",":
@@ -48,9 +47,8 @@ def pieces_of(found):
     return pieces
 
 
-def changes_in(found):
-    """The pieces behind the word then of a move line."""
-    return pieces_of(found[found.index("then") + 1:])
+def pieces_in(found):
+    return parted_by_commas(found[found.index("then") + 1:])
 
 
 def check_lamps(found):
@@ -61,13 +59,13 @@ def check_lamps(found):
 def check_move(found):
     if found.count("then") != 1:
         raise NoLine("a move has one word then")
-    for piece in changes_in(found):
+    for piece in pieces_in(found):
         if len(piece) < 2 or piece[1] != "is":
             raise NoLine("a piece of a move is a name, the word is, and a formula")
 
 
 def check_form(found):
-    """Refuses with NoLine what is wrong in the form of a line of one of the four sorts."""
+    # Apart from names and formulas, since a desk without a machine looks at the form alone.
     if found[0] == "lamps":
         check_lamps(found)
     if found[0] == "move":
@@ -75,7 +73,6 @@ def check_form(found):
 
 
 def names_in(found):
-    """The names of a lamps line of good form."""
     names = found[1:]
     for at, name in enumerate(names):
         if name in NO_NAMES or len(name) > LONGEST_NAME:
@@ -86,7 +83,6 @@ def names_in(found):
 
 
 def lamps_in(pieces, names):
-    """The numbers of the lamps that the pieces of a move change."""
     lamps = []
     for piece in pieces:
         name = piece[0]
@@ -97,7 +93,7 @@ def lamps_in(pieces, names):
 
 
 def move_in(found, names):
-    pieces = changes_in(found)
+    pieces = pieces_in(found)
     # The names of all pieces come first: a wrong one is told ahead of any wrong formula.
     lamps = lamps_in(pieces, names)
     guard = formula_in(found[1:found.index("then")], names)
@@ -108,7 +104,6 @@ def move_in(found, names):
 
 
 def thing_in(found, names):
-    """The formula or the move of a start, bad or move line of good form."""
     if found[0] == "move":
         return move_in(found, names)
     return formula_in(found[1:], names)

@@ -29,9 +29,11 @@ def single(word, names):
     raise NoFormula(f"{word!r} has no place there")
 
 
-class Level:
-    """What has been read between one bracket and its end: parts that are not joined yet, sort by sort."""
+# A level is what has been read behind one bracket, its parts not joined yet. Levels are kept in
+# a list, so that no text can lie too deep for calls within one another.
 
+
+class Level:
     def __init__(self):
         self.nots = 0
         self.ands = []
@@ -72,7 +74,6 @@ class Level:
 
 
 def formula_in(found, names):
-    """The formula that a list of words is."""
     levels = [Level()]
     for word in found:
         level = levels[-1]

@@ -11,8 +11,7 @@ def may_shut(chart, held, bar):
     return chart.behind(inside) & held & ~inside == 0
 
 
-def wider(chart, held, bar):
-    """The bar without one of its lamps, where it may be shut still; else None."""
+def without_one_lamp(chart, held, bar):
     for lamp in asked_by(bar):
         fewer = without(bar, lamp)
         if may_shut(chart, held, fewer):
@@ -25,8 +24,8 @@ def widened(chart, held, bar):
         raise NotShut("the bar may not be shut")
     # All lamps are tried again behind each that went: one that had to stay perhaps can go then.
     found = bar
-    further = wider(chart, held, found)
+    further = without_one_lamp(chart, held, found)
     while further is not None:
         found = further
-        further = wider(chart, held, found)
+        further = without_one_lamp(chart, held, found)
     return found

@@ -32,8 +32,7 @@ def read_bar(text):
     return (asked, lit)
 
 
-def outside(bar):
-    """The formula that holds at the stands that do not lie in the bar."""
+def formula_outside(bar):
     parts = []
     for lamp in asked_by(bar):
         parts.append(Not(Lamp(lamp)) if (bar[1] >> lamp) & 1 else Lamp(lamp))
@@ -43,7 +42,7 @@ def outside(bar):
 
 
 def formula_of(bars):
-    parts = [outside(bar) for bar in bars]
+    parts = [formula_outside(bar) for bar in bars]
     if len(parts) == 0:
         return Sure(True)
     return parts[0] if len(parts) == 1 else And(parts)

@@ -152,6 +152,8 @@ class Rules(unittest.TestCase):
                     self.assertIsInstance(node, STATEMENTS, at(path, node))
                 if isinstance(node, ast.expr):
                     self.assertIsInstance(node, EXPRESSIONS, at(path, node))
+                if isinstance(node, ast.Expr) and node is not tree.body[0]:
+                    self.assertIsInstance(node.value, ast.Call, at(path, node))
                 if isinstance(node, ast.Constant):
                     self.assertIn(type(node.value), (int, str, bool, type(None)), at(path, node))
                 if isinstance(node, ast.Assign):
@@ -185,7 +187,7 @@ class Rules(unittest.TestCase):
                 self.assertLessEqual(len(node.bases), 1)
                 self.assertEqual((node.decorator_list, node.keywords), ([], []))
                 for item in node.body:
-                    self.assertIsInstance(item, (ast.FunctionDef, ast.Pass, ast.Expr))
+                    self.assertIsInstance(item, (ast.FunctionDef, ast.Pass))
                 names = [item.name for item in node.body if isinstance(item, ast.FunctionDef)]
                 self.assertEqual(len(names), len(set(names)), node.name)
 
