@@ -8,7 +8,3 @@ def all_stands(many):
 def least(crowd):
     # Of a number and its negative only the lowest bit is common to both.
     return (crowd & -crowd).bit_length() - 1
-
-
-def stands_in(crowd):
-    return [stand for stand in range(crowd.bit_length()) if (crowd >> stand) & 1]

@@ -84,7 +84,8 @@ def formula_in(found, names):
             levels[-1].take_part(level.whole())
         else:
             level.take_word(word, names)
-    if len(levels) > 1 or levels[0].lacking:
+    # As long as a bracket is open, the level round it lacks the part that it begins.
+    if levels[0].lacking:
         raise NoFormula("the formula ends too early")
     return levels[0].whole()
 

@@ -193,6 +193,10 @@ class Walked(Case):
                 self.assertEqual(picks, copy)
                 self.assertEqual(self.machine.walked(0, good), [0, 1, 2, 3, 0, 1, 2])
         self.refused(NoStep, Machine(["a"], [], [], []).walked, 0, [0])
+        fitting = Machine(["a"], [], [], [Move(Sure(True), [(0, Sure(True))]), Move(Sure(True), [(0, Sure(False))])])
+        for wrong in (-1, -2, -3, 2, 3):
+            for picks in ([wrong], [wrong, 0], [0, wrong], [0, wrong, 1], [1, 0, wrong]):
+                self.refused(NoStep, fitting.walked, 0, picks)
 
     def test_moves_that_do_not_fit(self):
         self.refused(NoStep, self.machine.walked, 0, [1])
